@@ -1,0 +1,1 @@
+"""Files kept in rows that are only ever written one behind the other."""

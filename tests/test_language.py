@@ -1,0 +1,126 @@
+"""The form of the package: what of ../shared/LANGUAGE.md a short look at the code can tell."""
+
+import ast
+import builtins
+import pathlib
+import re
+import unittest
+import warnings
+
+FOLDER = pathlib.Path(__file__).resolve().parent.parent / "cleanrows"
+PATHS = sorted(FOLDER.glob("*.py"))
+
+BUILTINS = set("""len range enumerate zip min max sum abs sorted reversed int str bool bytes list tuple dict set
+    isinstance ord repr any all divmod Exception ValueError TypeError KeyError IndexError LookupError
+    ZeroDivisionError ArithmeticError OverflowError RuntimeError NotImplementedError StopIteration""".split())
+
+METHODS = set("""append clear copy count endswith extend find get index insert isalnum isalpha isdigit islower isspace
+    isupper items join keys ljust lower lstrip partition pop remove replace reverse rfind rjust rpartition rsplit
+    rstrip setdefault split splitlines startswith strip update upper values zfill bit_length add discard""".split())
+
+BARRED_NODES = (
+    ast.With, ast.Match, ast.Global, ast.Nonlocal, ast.Yield, ast.YieldFrom, ast.AsyncFunctionDef, ast.Await,
+    ast.GeneratorExp, ast.NamedExpr, ast.Div, ast.MatMult, ast.Import, ast.TryStar,
+)
+
+BARRED_WORDS = re.compile(
+    r"\b(type|typing|typing_extensions|enum|Enum|IntEnum|StrEnum|Flag|IntFlag|Generic|Protocol|ABC|ABCMeta|namedtuple"
+    r"|NamedTuple|TypedDict|TYPE_CHECKING|abstractmethod)\b|dataclass|overload|contextmanager")
+
+
+def parsed():
+    return [(path, ast.parse(path.read_text())) for path in PATHS]
+
+
+def nodes(kind):
+    for path, tree in parsed():
+        for node in ast.walk(tree):
+            if isinstance(node, kind):
+                yield path, node
+
+
+def own_methods():
+    return {part.name for path, node in nodes(ast.ClassDef) for part in node.body if isinstance(part, ast.FunctionDef)}
+
+
+class LanguageTest(unittest.TestCase):
+
+    def test_the_folder(self):
+        names = [path.name for path in FOLDER.iterdir() if path.name != "__pycache__"]
+        self.assertIn("__init__.py", names)
+        for name in names:
+            self.assertRegex(name, r"^[a-z0-9_]+\.py$")
+
+    def test_sizes_and_signs(self):
+        for path in PATHS:
+            text = path.read_text()
+            lines = text.split("\n")
+            self.assertLessEqual(len(lines), 400, path)
+            self.assertLessEqual(max(len(line) for line in lines), 120, path)
+            self.assertEqual([sign for sign in text if not (" " <= sign <= "~" or sign == "\n")], [], path)
+            self.assertIsNone(BARRED_WORDS.search(text), path)
+        for path, node in nodes(ast.FunctionDef):
+            self.assertLessEqual(node.end_lineno - node.lineno + 1, 40, (path, node.name))
+
+    def test_python_gives_no_warning(self):
+        with warnings.catch_warnings():
+            warnings.simplefilter("error")
+            for path in PATHS:
+                compile(path.read_text(), str(path), "exec")
+
+    def test_imports_name_the_package_in_full(self):
+        for path, node in nodes(ast.ImportFrom):
+            self.assertEqual(node.level, 0, path)
+            self.assertRegex(node.module, r"^cleanrows\.[a-z0-9_]+$")
+            target = ast.parse((FOLDER / (node.module.split(".")[1] + ".py")).read_text())
+            defined = {part.name for part in target.body if isinstance(part, (ast.FunctionDef, ast.ClassDef))}
+            defined |= {name.id for part in target.body if isinstance(part, ast.Assign) for name in part.targets}
+            self.assertLessEqual({alias.name for alias in node.names}, defined, path)
+
+    def test_barred_statements_and_expressions(self):
+        for path, node in nodes(BARRED_NODES):
+            self.fail(f"{path.name}:{getattr(node, 'lineno', 0)}: {node.__class__.__name__}")
+        for path, node in nodes((ast.For, ast.While)):
+            self.assertEqual(node.orelse, [], path)
+        for path, node in nodes((ast.FunctionDef, ast.ClassDef)):
+            self.assertEqual(node.decorator_list, [], path)
+        for path, node in nodes(ast.Constant):
+            self.assertNotIsInstance(node.value, (float, complex), path)
+            if isinstance(node.value, str):
+                self.assertNotIn("%", node.value, path)
+
+    def test_is_goes_with_none_true_and_false(self):
+        for path, node in nodes(ast.Compare):
+            for operator, right in zip(node.ops, node.comparators):
+                if isinstance(operator, (ast.Is, ast.IsNot)):
+                    self.assertIn(getattr(right, "value", 0), (None, True, False), (path, node.lineno))
+
+    def test_names(self):
+        every_builtin = set(dir(builtins))
+        for path, node in nodes(ast.Name):
+            self.assertFalse(node.id.startswith("_"), (path, node.id))
+            if isinstance(node.ctx, ast.Load):
+                self.assertFalse(node.id in every_builtin and node.id not in BUILTINS, (path, node.id))
+            else:
+                self.assertNotIn(node.id, every_builtin, (path, node.id))
+        for path, node in nodes(ast.arg):
+            self.assertNotIn(node.arg, every_builtin, (path, node.arg))
+
+    def test_methods_and_attributes(self):
+        methods = own_methods()
+        assigned = {node.attr for path, node in nodes(ast.Attribute) if isinstance(node.ctx, ast.Store)}
+        self.assertEqual(methods & assigned, set())
+        for path, node in nodes(ast.Call):
+            if isinstance(node.func, ast.Attribute):
+                self.assertIn(node.func.attr, METHODS | methods, (path, node.lineno))
+
+    def test_classes(self):
+        for path, node in nodes(ast.ClassDef):
+            self.assertLessEqual(len(node.bases), 1, path)
+            for part in node.body:
+                is_docstring = isinstance(part, ast.Expr) and isinstance(part.value, ast.Constant)
+                self.assertTrue(is_docstring or isinstance(part, ast.FunctionDef), (path, node.name))
+
+
+if __name__ == "__main__":
+    unittest.main()
