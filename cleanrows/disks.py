@@ -1,17 +1,12 @@
 """Disks: stretches that are written place by place, two sides, and a stop at any sign (points 7 to 9)."""
 
 from cleanrows.errors import Full, NoDisk, Stopped
-from cleanrows.parts import is_whole
+from cleanrows.parts import is_within
 
 LEAST_STRETCHES = 3
 MOST_STRETCHES = 16
 LEAST_PLACES = 2
 MOST_PLACES = 32
-
-
-def is_within(value, least, most):
-    """Whether a value of any kind is a whole number between these, both of them counted in."""
-    return is_whole(value) and least <= value <= most
 
 
 class Disk:

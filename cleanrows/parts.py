@@ -1,4 +1,4 @@
-"""The parts that rows are made of: whole numbers, names and words (points 2 and 5)."""
+"""The parts that texts are made of: whole numbers, names and words (points 2 and 5)."""
 
 FIGURES = "0123456789"
 LETTERS = "abcdefghijklmnopqrstuvwxyz"
@@ -11,6 +11,11 @@ def is_whole(value):
     """Whether a value of any kind is a whole number."""
     # Python counts True and False among the integers; the document does not.
     return isinstance(value, int) and not isinstance(value, bool)
+
+
+def is_within(value, least, most):
+    """Whether a value of any kind is a whole number between these, both of them counted in."""
+    return is_whole(value) and least <= value <= most
 
 
 def is_made_of(text, signs, most):
@@ -33,3 +38,41 @@ def is_name(text):
 def is_word(text):
     """Whether a text is a word."""
     return is_made_of(text, LETTERS + FIGURES, MOST_SIGNS)
+
+
+class NoPart(ValueError):
+    """A word that is not of the kind which is due; whoever reads a whole text tells this as a refusal of its own."""
+
+
+class Words:
+    """The words of a text, one blank between, taken one behind the other."""
+
+    def __init__(self, text):
+        self.words = text.split(" ")
+        self.taken = 0
+
+    def take_word(self):
+        """The next word, of whatever signs."""
+        if self.taken == len(self.words):
+            raise NoPart("there is no further word")
+        self.taken += 1
+        return self.words[self.taken - 1]
+
+    def take_number(self):
+        """The next word, where it is a number."""
+        word = self.take_word()
+        if not is_number_text(word):
+            raise NoPart("this word is no number")
+        return int(word)
+
+    def take_name(self):
+        """The next word, where it is a name."""
+        word = self.take_word()
+        if not is_name(word):
+            raise NoPart("this word is no name")
+        return word
+
+    def take_end(self):
+        """Nothing, where all words are taken."""
+        if self.taken < len(self.words):
+            raise NoPart("a further word stands behind the end")

@@ -23,10 +23,22 @@ def sum_of(text):
     return total % MODULUS
 
 
+def summed(body):
+    """A body, the sum of it, and the sign that ends them."""
+    return f"{body}{sum_of(body)};"
+
+
+def body_of(text):
+    """What stands ahead of the sum that a text ends in; None of anything that does not end so."""
+    if not isinstance(text, str):
+        return None
+    body = text[:text.rfind(" ") + 1]
+    return body if text == summed(body) else None
+
+
 def row_text(row):
     """The text that a row is written as."""
-    body = "".join([part_text(part) + " " for part in row])
-    return f"{body}{sum_of(body)};"
+    return summed("".join([part_text(part) + " " for part in row]))
 
 
 def part_text(part):
@@ -39,12 +51,9 @@ def part_text(part):
 
 def read_row(text):
     """The row that is written as this text; NoRow, of anything else."""
-    if not isinstance(text, str):
-        raise NoRow("this is no text")
-    start = text.rfind(" ") + 1
-    body = text[:start]
-    if text[start:] != f"{sum_of(body)};":
-        raise NoRow("this text does not end in its sum")
+    body = body_of(text)
+    if body is None:
+        raise NoRow("this is no text that ends in its sum")
     return row_of(body[:-1].split(" "))
 
 

@@ -39,6 +39,30 @@ def nodes(kind):
                 yield path, node
 
 
+def child_pairs():
+    """Each node of the package with the one that it stands in."""
+    for path, tree in parsed():
+        for parent in ast.walk(tree):
+            for child in ast.iter_child_nodes(parent):
+                yield path, parent, child
+
+
+def called(node):
+    """The name that a call calls, "" of other nodes."""
+    if not isinstance(node, ast.Call):
+        return ""
+    return node.func.id if isinstance(node.func, ast.Name) else getattr(node.func, "attr", "")
+
+
+def imported_files(name):
+    tree = ast.parse((FOLDER / (name + ".py")).read_text())
+    return [node.module.split(".")[1] for node in tree.body if isinstance(node, ast.ImportFrom)]
+
+
+def own_classes():
+    return {node.name: node for path, node in nodes(ast.ClassDef)}
+
+
 def own_methods():
     return {part.name for path, node in nodes(ast.ClassDef) for part in node.body if isinstance(part, ast.FunctionDef)}
 
@@ -120,6 +144,88 @@ class LanguageTest(unittest.TestCase):
             for part in node.body:
                 is_docstring = isinstance(part, ast.Expr) and isinstance(part.value, ast.Constant)
                 self.assertTrue(is_docstring or isinstance(part, ast.FunctionDef), (path, node.name))
+
+    def test_own_names_are_not_those_of_builtin_values(self):
+        taken = {name for kind in (str, int, list, dict, set, bytes) for name in dir(kind)}
+        own = own_methods() | {node.attr for path, node in nodes(ast.Attribute) if isinstance(node.ctx, ast.Store)}
+        self.assertEqual({name for name in own & taken if not name.startswith("__")}, set())
+
+    def test_an_attribute_that_is_read_is_assigned_somewhere(self):
+        assigned = {node.attr for path, node in nodes(ast.Attribute) if isinstance(node.ctx, ast.Store)}
+        for path, parent, child in child_pairs():
+            is_called = isinstance(parent, ast.Call) and parent.func is child
+            if isinstance(child, ast.Attribute) and isinstance(child.ctx, ast.Load) and not is_called:
+                self.assertIn(child.attr, assigned, (path, child.lineno))
+
+    def test_module_level(self):
+        for path, tree in parsed():
+            for at, part in enumerate(tree.body):
+                is_docstring = at == 0 and isinstance(part, ast.Expr) and isinstance(part.value, ast.Constant)
+                kinds = (ast.ImportFrom, ast.FunctionDef, ast.ClassDef, ast.Assign)
+                self.assertTrue(is_docstring or isinstance(part, kinds), (path, part.lineno))
+
+    def test_no_local_name_is_that_of_a_class_or_an_import(self):
+        for path, tree in parsed():
+            outer = {part.name for part in tree.body if isinstance(part, ast.ClassDef)}
+            outer |= {one.name for part in tree.body if isinstance(part, ast.ImportFrom) for one in part.names}
+            for node in ast.walk(tree):
+                if isinstance(node, ast.Name) and isinstance(node.ctx, ast.Store):
+                    self.assertNotIn(node.id, outer, (path, node.lineno))
+                if isinstance(node, ast.arg):
+                    self.assertNotIn(node.arg, outer, (path, node.lineno))
+
+    def test_no_files_import_from_each_other(self):
+        for path in PATHS:
+            reached, ahead = set(), imported_files(path.stem)
+            while ahead:
+                name = ahead.pop()
+                if name not in reached:
+                    reached.add(name)
+                    ahead += imported_files(name)
+            self.assertNotIn(path.stem, reached)
+
+    def test_sets_stand_where_they_may(self):
+        for path, parent, child in child_pairs():
+            if isinstance(child, (ast.Set, ast.SetComp)) or called(child) == "set":
+                is_tested = isinstance(parent, ast.Compare) and isinstance(parent.ops[0], (ast.In, ast.NotIn))
+                self.assertTrue(is_tested or called(parent) in ("sorted", "len"), (path, child.lineno))
+
+    def test_iterated_at_once(self):
+        lazy = ("zip", "enumerate", "reversed", "range", "items", "keys", "values")
+        takers = ("list", "tuple", "dict", "sorted", "sum", "any", "all", "enumerate", "zip", "bytes", "min", "max")
+        for path, parent, child in child_pairs():
+            if called(child) in lazy:
+                is_looped = isinstance(parent, (ast.For, ast.comprehension)) and parent.iter is child
+                self.assertTrue(is_looped or called(parent) in takers, (path, child.lineno))
+
+    def test_errors_are_made_on_the_spot_and_caught_by_name(self):
+        errors = {name for name, node in own_classes().items() if node.bases}
+        for path, node in nodes(ast.Raise):
+            if node.exc is not None:
+                self.assertIn(called(node.exc), errors, (path, node.lineno))
+                self.assertEqual([part.__class__ for part in node.exc.args], [ast.Constant], (path, node.lineno))
+        for path, node in nodes(ast.ExceptHandler):
+            names = node.type.elts if isinstance(node.type, ast.Tuple) else [node.type]
+            for name in names:
+                self.assertIn(getattr(name, "id", ""), errors | {"KeyError", "ZeroDivisionError"}, (path, node.lineno))
+
+    def test_classes_are_called_or_tested_only(self):
+        classes = own_classes()
+        for path, parent, child in child_pairs():
+            if isinstance(child, ast.Name) and child.id in classes:
+                is_fine = isinstance(parent, (ast.ClassDef, ast.ExceptHandler)) or called(parent) == child.id
+                is_fine = is_fine or (called(parent) == "isinstance" and parent.args[0] is not child)
+                self.assertTrue(is_fine, (path, child.lineno))
+
+    def test_own_functions_are_passed_what_they_take(self):
+        takes = {node.name: len(node.args.args) for path, node in nodes(ast.FunctionDef)
+                 if not (node.args.args and node.args.args[0].arg == "self")}
+        for name, node in own_classes().items():
+            makers = [part for part in node.body if isinstance(part, ast.FunctionDef) and part.name == "__init__"]
+            takes[name] = len(makers[0].args.args) - 1 if makers else len(node.bases)
+        for path, node in nodes(ast.Call):
+            if isinstance(node.func, ast.Name) and node.func.id in takes:
+                self.assertEqual(len(node.args) + len(node.keywords), takes[node.func.id], (path, node.lineno))
 
 
 if __name__ == "__main__":

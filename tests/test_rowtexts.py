@@ -4,9 +4,7 @@ import unittest
 
 from cleanrows.errors import CleanError, NoRow
 from cleanrows.rowtexts import read_row, row_text, sum_of
-
-GREATEST = 10 ** 18 - 1
-SIGNS = [chr(code) for code in range(32, 127)] + ["\t", "\n"]
+from model import GREATEST, SIGNS, counted_sum, sealed
 
 # Rows of all five sorts and their texts, whole.
 WRITTEN = (
@@ -34,16 +32,6 @@ EDGES = (
     ("carry", GREATEST, 0, "abcdefghijklmnopqrst"),
     ("carry", 10 ** 17, 10 ** 17, "uvwxyz0123456789"),
 )
-
-
-def counted_sum(text):
-    """The sum of point 6, counted by the test itself."""
-    return sum(at * ord(sign) for at, sign in zip(range(1, len(text) + 1), text)) % 65521
-
-
-def sealed(body):
-    """A body that may be no row's, with its right sum behind it."""
-    return f"{body}{counted_sum(body)};"
 
 
 class SumTest(unittest.TestCase):
