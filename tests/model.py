@@ -1,14 +1,20 @@
-"""What the tests count with by themselves, apart from the program: plain tables, their texts, sums.
+"""What the tests count with by themselves, apart from the program: plain tables, their texts, sums, a plain house.
 
 A table is a dict of files: by name the list of its births. What is held is a dict of such tables by name.
+Placed is a row with its stretch and its place, as (row, stretch, place).
 """
 
 import re
 
+from cleanrows.disks import Disk
+from cleanrows.errors import Stopped
 from cleanrows.files import Files
 
 GREATEST = 10 ** 18 - 1
 SIGNS = [chr(code) for code in range(32, 127)] + ["\t", "\n"]
+# Names and words, the heads of rows among them.
+NAMES = ("a", "put", "cut", "hold", "free", "carry", "mark", "abcdef")
+WORDS = ("put", "cut", "hold", "free", "carry", "mark", "0", "1", "00", "w", "abcdefghijklmn")
 NO_TEXTS = (
     None, True, False, 0, 1, -1, 10 ** 18, b"", b"0 0", b"mark 0 0 0 0 0 5393;", [], ["0 0"], ["0", "0"], (), ("0 0",),
     {}, {"0": "0"}, {"0 0"}, object(), str, len, Files(), ValueError("0 0"),
@@ -35,6 +41,12 @@ def counted_sum(text):
 def sealed(body):
     """A body that may be none, with its right sum behind it."""
     return f"{body}{counted_sum(body)};"
+
+
+def row_text_of(row):
+    """The text of point 6."""
+    parts = [str(int(part)) if isinstance(part, bool) else str(part) for part in row]
+    return sealed("".join(part + " " for part in parts))
 
 
 def files_of(table, held):
@@ -168,3 +180,224 @@ def spoilt_signs(text, signs=SIGNS):
     for at in range(len(text) + 1):
         for sign in signs:
             yield text[:at] + sign + text[at:]
+
+
+def mark_body(table, held, spots, next_number, mark_number):
+    """The body of point 14."""
+    parts = ["mark", str(mark_number), str(next_number), text_of(table, held), str(len(spots))]
+    for spot in sorted(spots):
+        parts += map(str, spot)
+    return " ".join(parts) + " "
+
+
+def told_of(state):
+    """All that a state tells, but of spots that are asked one by one."""
+    return all_told(state.files()), state.spots(), state.next_number(), state.mark_number()
+
+
+def seen(disk):
+    """All that a disk tells."""
+    stretches = range(disk.stretches())
+    return (
+        [disk.next_place(stretch) for stretch in stretches],
+        [[disk.told(stretch, place) for place in range(disk.places())] for stretch in stretches],
+        [disk.side(0), disk.side(1)],
+        disk.signs(),
+    )
+
+
+def disk_of(stretches, places, texts, sides=()):
+    """A disk with such texts, a list for each of its first stretches, and such marks; a row is written as its text."""
+    disk = Disk(stretches, places)
+    for stretch, part in enumerate(texts):
+        for text in part:
+            disk.write(stretch, text if isinstance(text, str) else row_text_of(text))
+    for side, text in enumerate(sides):
+        if text is not None:
+            disk.put_side(side, text)
+    return disk
+
+
+def stopped_in(disk, many, deed, *parts):
+    """A copy of a disk that stopped behind so many signs more, in a deed of its own."""
+    disk = disk.copied()
+    disk.stop(many)
+    try:
+        getattr(disk, deed)(*parts)
+    except Stopped:
+        return disk.copied()
+    raise AssertionError("the disk did not stop")
+
+
+def do_to_tables(table, held, row):
+    """Do to a table, and to what is held, what a row does; what point 10 refuses is a LookupError here."""
+    kind = row[0]
+    if kind == "put":
+        births = table.get(row[4], [])
+        if row[5] > len(births):
+            raise LookupError(row)
+        table[row[4]] = births[:row[5]] + [row[1]] + births[row[5] + 1:]
+    elif kind == "cut":
+        table[row[2]] = table[row[2]][:row[3]] if row[3] <= len(table[row[2]]) else [][0]
+        if row[3] == 0:
+            del table[row[2]]
+    elif kind == "hold":
+        if row[2] in held:
+            raise LookupError(row)
+        held[row[2]] = dict(table)
+    elif kind == "free":
+        del held[row[2]]
+
+
+def due_behind(marked, placed):
+    """What point 16 tells of the state behind a mark, in parts as a mark's state has them, and of placed rows."""
+    table, held, spots, number, mark_number = marked
+    table, held = dict(table), dict(held)
+    by_number = {row[1]: (row, stretch, place) for row, stretch, place in placed}
+    taken = []
+    while number in by_number:
+        taken.append(by_number[number])
+        number += 1
+    groups = {}
+    for row, stretch, place in taken:
+        if row[0] == "put":
+            groups.setdefault(row[2], {})[row[1]] = row[3]
+    for row, stretch, place in taken:
+        if row[0] != "put" or is_whole_group(groups[row[2]], row[2]):
+            do_to_tables(table, held, row)
+    living = all_due(table, held)[2]
+    last = {birth: (stretch, place) for birth, stretch, place in spots}
+    for birth in living:
+        own = [(row[1], stretch, place) for row, stretch, place in taken
+               if row[:2] == ("put", birth) or row[0] == "carry" and row[2] == birth]
+        if own:
+            last[birth] = max(own)[1:]
+    return all_due(table, held), [(birth, *last[birth]) for birth in living], number, mark_number
+
+
+def is_whole_group(ends, first):
+    """Whether a group reaches from its first number to an end; ends tells by number whether that row is one."""
+    return any(is_end and set(range(first, number + 1)) <= set(ends) and first <= number
+               for number, is_end in ends.items())
+
+
+class PlainHouse:
+    """A house as the tests count it: it remembers what was done, and says itself where each row goes.
+
+    Its disk may stop in a deed; with a copy of it the house goes on from what it remembers.
+    """
+
+    def __init__(self, disk):
+        self.disk = disk
+        self.table, self.held = {}, {}
+        self.spots, self.words = {}, {}
+        self.ends = {True: None, False: None}
+        self.following = self.marks = self.carried = 0
+        self.placed = []
+
+    def go_on(self):
+        """Go on with a copy of the disk, on which some of the placed rows may be emptied."""
+        self.disk = self.disk.copied()
+        self.placed = [one for one in self.placed if self.disk.told(*one[1:]) is not None]
+
+    def empties(self):
+        return [stretch for stretch in range(self.disk.stretches()) if self.disk.next_place(stretch) == 0]
+
+    def free_places(self, is_hot):
+        end = self.ends[is_hot]
+        return 0 if end is None else self.disk.places() - self.disk.next_place(end)
+
+    def room(self):
+        return self.free_places(True) + self.disk.places() * max(0, len(self.empties()) - 1)
+
+    def closed(self):
+        stretches = range(self.disk.stretches())
+        return [one for one in stretches if self.disk.next_place(one) > 0 and one not in self.ends.values()]
+
+    def living(self):
+        return all_due(self.table, self.held)[2]
+
+    def living_in(self, stretch):
+        return sorted((birth for birth in self.living() if self.spots[birth][0] == stretch), key=self.spots.get)
+
+    def told(self):
+        """What the state is due to tell."""
+        spots = [(birth, *self.spots[birth]) for birth in self.living()]
+        return all_due(self.table, self.held), spots, self.following, self.marks
+
+    def write(self, row):
+        is_hot = row[0] != "carry"
+        stretch = self.ends[is_hot] if self.free_places(is_hot) else self.empties()[0]
+        place = self.disk.write(stretch, row_text_of(row))
+        self.ends[is_hot] = stretch
+        self.following = row[1] + 1
+        self.placed.append((row, stretch, place))
+        return stretch, place
+
+    def put(self, file, pairs):
+        first, last = self.following, self.following + len(pairs) - 1
+        rows = [("put", number, first, number == last, file, *pair) for number, pair in enumerate(pairs, start=first)]
+        for row in rows:
+            self.spots[row[1]] = self.write(row)
+            self.words[row[1]] = row[6]
+        for row in rows:
+            do_to_tables(self.table, self.held, row)
+
+    def do(self, kind, *parts):
+        """A cut, a hold, a free."""
+        row = (kind, self.following, *parts)
+        self.write(row)
+        do_to_tables(self.table, self.held, row)
+
+    def mark(self):
+        told = self.told()
+        self.disk.put_side(self.marks % 2, sealed(mark_body(self.table, self.held, *told[1:])))
+        self.marks += 1
+
+    def clean(self, stretch):
+        for birth in self.living_in(stretch):
+            self.spots[birth] = self.write(("carry", self.following, birth, self.words[birth]))
+            self.carried += 1
+        self.mark()
+        self.disk.empty(stretch)
+        self.placed = [one for one in self.placed if one[1] != stretch]
+
+    def cleanable(self):
+        """The closed stretches whose living rows find a place."""
+        free = self.free_places(False) + self.disk.places() * len(self.empties())
+        return [stretch for stretch in self.closed() if len(self.living_in(stretch)) <= free]
+
+    def some_deed(self, chance):
+        """A deed that is not refused, as its name and what is handed in with it."""
+        deeds, room = [("mark",)], self.room()
+        if room:
+            file = chance.choice(NAMES)
+            many = len(self.table.get(file, []))
+            deeds += [("put", file, some_pairs(chance, many, min(room, 8)))] * 8
+            deeds += [("cut", file, chance.randint(0, many))] * (many > 0)
+            name = chance.choice(NAMES)
+            if name in self.held:
+                deeds += [("free", name)] * 3
+            elif len(self.held) < 3:
+                deeds.append(("hold", name))
+        cleanable = self.cleanable()
+        if cleanable:
+            deeds += [("clean", chance.choice(cleanable))] * (2 if room > 4 else 12)
+        return chance.choice(deeds)
+
+    def do_deed(self, deed):
+        """Do a deed as some_deed tells it."""
+        if deed[0] in ("put", "mark", "clean"):
+            getattr(self, deed[0])(*deed[1:])
+        else:
+            self.do(*deed)
+
+
+def some_pairs(chance, many, most):
+    """One to so many pairs for a file of so many places."""
+    pairs = []
+    for turn in range(chance.randint(1, chance.randint(1, most))):
+        place = chance.randint(max(0, many - 3), min(many, 59))
+        many = max(many, place + 1)
+        pairs.append((place, chance.choice(WORDS) + str(chance.randrange(1000)) * chance.randrange(3)))
+    return pairs

@@ -4,17 +4,7 @@ import unittest
 
 from cleanrows.disks import Disk
 from cleanrows.errors import CleanError, Full, NoDisk, Stopped
-
-
-def seen(disk):
-    """All that a disk tells."""
-    stretches = range(disk.stretches())
-    return (
-        [disk.next_place(stretch) for stretch in stretches],
-        [[disk.told(stretch, place) for place in range(disk.places())] for stretch in stretches],
-        [disk.side(0), disk.side(1)],
-        disk.signs(),
-    )
+from model import seen
 
 
 def full_disk(stretches, places):

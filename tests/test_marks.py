@@ -8,8 +8,8 @@ from cleanrows.files import Files
 from cleanrows.marks import mark_text, read_mark
 from cleanrows.states import State, first_state
 from model import (
-    GREATEST, NO_TEXTS, SAMPLES, SIGNS, all_due, all_told, counted_sum, files_of, is_sound, parsed, sealed,
-    spoilt_signs, spoilt_words, text_of)
+    GREATEST, NO_TEXTS, SAMPLES, SIGNS, all_due, all_told, counted_sum, files_of, is_sound, mark_body, parsed, sealed,
+    spoilt_signs, spoilt_words, told_of)
 
 # States, in parts, and their marks, whole: table, held, spots, next, mark.
 WRITTEN = (
@@ -90,21 +90,9 @@ def state_of(table, held, spots, next_number, mark_number):
     return State(files_of(table, held), spots, next_number, mark_number)
 
 
-def told_of(state):
-    return all_told(state.files()), state.spots(), state.next_number(), state.mark_number()
-
-
 def due_of(table, held, spots, next_number, mark_number):
     """What is due to be told of the state that is read from such a mark."""
     return all_due(table, held), sorted(spots), next_number, mark_number + 1
-
-
-def body_of(table, held, spots, next_number, mark_number):
-    """The body of point 14."""
-    parts = ["mark", str(mark_number), str(next_number), text_of(table, held), str(len(spots))]
-    for spot in sorted(spots):
-        parts += map(str, spot)
-    return " ".join(parts) + " "
 
 
 def read_body(body):
@@ -121,7 +109,7 @@ def read_body(body):
     is_bounded = is_sound(table, held) and all(0 <= number <= GREATEST for number in numbers)
     births = [birth for birth, stretch, place in spots]
     parts = table, held, spots, next_number, mark_number
-    if is_bounded and births == all_due(table, held)[2] and body_of(*parts) == body:
+    if is_bounded and births == all_due(table, held)[2] and mark_body(*parts) == body:
         return parts
     return None
 
@@ -166,7 +154,7 @@ class WrittenTest(MarksCase):
     def test_the_samples(self):
         for parts in MANY:
             text = mark_text(state_of(*parts))
-            self.assertEqual(text, sealed(body_of(*parts)))
+            self.assertEqual(text, sealed(mark_body(*parts)))
             state = read_mark(text)
             self.assertIsInstance(state, State)
             self.assertEqual(told_of(state), due_of(*parts))
@@ -235,7 +223,7 @@ class WrittenTest(MarksCase):
         parts = with_spots(table, held, 300, 12)
         text = mark_text(state_of(*parts))
         self.assertTrue(2900 < len(text) <= 3000, len(text))
-        self.assertEqual(text, sealed(body_of(*parts)))
+        self.assertEqual(text, sealed(mark_body(*parts)))
         self.assertEqual(told_of(read_mark(text)), due_of(*parts))
         for many in range(0, len(text), 7):
             self.assert_refused(text[:many])
@@ -255,7 +243,7 @@ class SpoiltTest(MarksCase):
 
     def test_spoilt_sums(self):
         for parts in MANY:
-            body = body_of(*parts)
+            body = mark_body(*parts)
             total = counted_sum(body)
             for end in ("", ";", str(total), f"0{total};", f"+{total};", f"-{total};", f" {total};", f"{total} ;",
                         f"{total};;", f"{total};\n", f"{total}; ", f"{total + 1};", f"{total - 1};",
@@ -267,32 +255,32 @@ class SpoiltTest(MarksCase):
 
     def test_beginnings(self):
         for parts in MANY:
-            text = sealed(body_of(*parts))
+            text = sealed(mark_body(*parts))
             for many in range(len(text)):
                 self.assert_refused(text[:many])
 
     def test_signs_taken_out_put_in_exchanged(self):
         for parts in MANY:
-            body = body_of(*parts)
+            body = mark_body(*parts)
             whole = sealed(body)
             for text in spoilt_signs(whole, SIGNS if len(whole) < 40 else "0 9a;\n"):
                 self.assert_refused(text)
 
     def test_signs_with_the_sum_made_right_again(self):
         for parts in MANY[:3] + MANY[4:6]:
-            for body in spoilt_signs(body_of(*parts)):
+            for body in spoilt_signs(mark_body(*parts)):
                 self.assert_as_the_model(body)
 
     def test_words_with_the_sum_made_right_again(self):
         refused = 0
         for parts in MANY:
-            for body in spoilt_words(body_of(*parts)):
+            for body in spoilt_words(mark_body(*parts)):
                 refused += read_body(body) is None
                 self.assert_as_the_model(body)
         self.assertGreater(refused, 10000)
 
     def test_words_with_the_old_sum(self):
-        whole = sealed(body_of(*MANY[6]))
+        whole = sealed(mark_body(*MANY[6]))
         for text in spoilt_words(whole):
             if text != whole:
                 self.assert_refused(text)
