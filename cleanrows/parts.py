@@ -45,7 +45,7 @@ class NoPart(ValueError):
 
 
 class Words:
-    """The words of a text, one blank between, taken one behind the other."""
+    """The words of a text, one blank between, of whatever signs each, taken one behind the other."""
 
     def __init__(self, text):
         self.words = text.split(" ")
@@ -53,7 +53,7 @@ class Words:
 
     def take_word(self):
         """The next word, of whatever signs."""
-        if self.taken == len(self.words):
+        if self.is_at_end():
             raise NoPart("there is no further word")
         self.taken += 1
         return self.words[self.taken - 1]
@@ -72,7 +72,18 @@ class Words:
             raise NoPart("this word is no name")
         return word
 
+    def take_plain(self):
+        """The next word, where it is one as rows have them."""
+        word = self.take_word()
+        if not is_word(word):
+            raise NoPart("this word has signs that no row's word has, or too many")
+        return word
+
+    def is_at_end(self):
+        """Whether all words are taken."""
+        return self.taken == len(self.words)
+
     def take_end(self):
         """Nothing, where all words are taken."""
-        if self.taken < len(self.words):
+        if not self.is_at_end():
             raise NoPart("a further word stands behind the end")

@@ -5,9 +5,10 @@ Placed is a row with its stretch and its place, as (row, stretch, place).
 """
 
 import re
+from fractions import Fraction
 
 from cleanrows.disks import Disk
-from cleanrows.errors import Stopped
+from cleanrows.errors import HeldAlready, NoFile, NoPlace, NoRoom, NotClosed, NotHeld, Stopped
 from cleanrows.files import Files
 
 GREATEST = 10 ** 18 - 1
@@ -160,7 +161,8 @@ def spoilt_words(text):
 def spoilt_word(word):
     yield []
     yield [word, word]
-    for other in ("", " ", "0", "1", "2", "a", "b", "zzzzzz", "A", "\n", "\t", "-1", "1" + "0" * 18, "9" * 18, "abcdefg"):
+    for other in ("", " ", "0", "1", "2", "a", "b", "zzzzzz", "A", "\n", "\t", "-1", "1" + "0" * 18, "9" * 18,
+                  "abcdefg"):
         yield [other]
         yield [other, word]
         yield [word, other]
@@ -281,6 +283,18 @@ def is_whole_group(ends, first):
                for number, is_end in ends.items())
 
 
+def words_of(house):
+    """All words of all files of a house, and of all held ones, read one by one."""
+    files = house.files()
+    words = {file: [house.read(file, place) for place in range(files.many(file))] for file in files.names()}
+    held = {}
+    for name in files.held():
+        own = files.of_held(name)
+        held[name] = {
+            file: [house.read_held(name, file, place) for place in range(own.many(file))] for file in own.names()}
+    return words, held
+
+
 class PlainHouse:
     """A house as the tests count it: it remembers what was done, and says itself where each row goes.
 
@@ -325,6 +339,12 @@ class PlainHouse:
         spots = [(birth, *self.spots[birth]) for birth in self.living()]
         return all_due(self.table, self.held), spots, self.following, self.marks
 
+    def all_words(self):
+        """What words_of is due to tell."""
+        tables = [self.table, *self.held.values()]
+        words = [{file: [self.words[birth] for birth in births] for file, births in one.items()} for one in tables]
+        return words[0], dict(zip(self.held, words[1:]))
+
     def write(self, row):
         is_hot = row[0] != "carry"
         stretch = self.ends[is_hot] if self.free_places(is_hot) else self.empties()[0]
@@ -367,6 +387,41 @@ class PlainHouse:
         free = self.free_places(False) + self.disk.places() * len(self.empties())
         return [stretch for stretch in self.closed() if len(self.living_in(stretch)) <= free]
 
+    def worth(self, stretch):
+        """The worth of a closed stretch."""
+        numbers = [row[1] for row, at, place in self.placed if at == stretch]
+        places, living = self.disk.places(), len(self.living_in(stretch))
+        return Fraction((places - living) * (self.following - max(numbers, default=0)), places + living)
+
+    def best(self, kind):
+        """The best closed stretch by "worth" or by "least"."""
+        if kind == "worth":
+            return max(self.closed(), key=lambda stretch: (self.worth(stretch), -stretch), default=None)
+        return min(self.closed(), key=lambda stretch: (len(self.living_in(stretch)), stretch), default=None)
+
+    def refusal(self, deed):
+        """The refusal that is due of a deed while the disk does not stop, None where it is done."""
+        kind, parts = deed[0], deed[1:]
+        if kind == "mark":
+            return None
+        if kind == "clean":
+            return NotClosed if parts[0] not in self.closed() else None if parts[0] in self.cleanable() else NoRoom
+        many = len(self.table.get(parts[0], []))
+        rows = 1
+        if kind == "put":
+            rows = len(parts[1])
+            for place, word in parts[1]:
+                if not 0 <= place <= many:
+                    return NoPlace
+                many = max(many, place + 1)
+        elif kind == "cut" and (many == 0 or parts[1] > many):
+            return NoPlace if many else NoFile
+        elif kind == "hold" and parts[0] in self.held:
+            return HeldAlready
+        elif kind == "free" and parts[0] not in self.held:
+            return NotHeld
+        return NoRoom if rows > self.room() else None
+
     def some_deed(self, chance):
         """A deed that is not refused, as its name and what is handed in with it."""
         deeds, room = [("mark",)], self.room()
@@ -385,12 +440,37 @@ class PlainHouse:
             deeds += [("clean", chance.choice(cleanable))] * (2 if room > 4 else 12)
         return chance.choice(deeds)
 
+    def walk(self, chance, how_often, most):
+        """Do a deed by chance, now and then with a stop behind less than so many signs, and tell whether it stopped.
+
+        Behind a stop the house goes on with a copy of its disk.
+        """
+        if chance.random() < how_often:
+            self.disk.stop(chance.randrange(most))
+        try:
+            self.do_deed(self.some_deed(chance))
+        except Stopped:
+            self.go_on()
+            return True
+        return False
+
     def do_deed(self, deed):
         """Do a deed as some_deed tells it."""
         if deed[0] in ("put", "mark", "clean"):
             getattr(self, deed[0])(*deed[1:])
         else:
             self.do(*deed)
+
+
+def any_deed(chance, stretches):
+    """A deed that may be refused, as its name and what is handed in with it; of a disk of so many stretches."""
+    name, number = chance.choice(NAMES[:4]), chance.randrange(4)
+    kind = chance.choice(("put", "put", "cut", "hold", "free", "clean"))
+    if kind == "put":
+        return kind, name, [(chance.randrange(-1, 5), chance.choice(WORDS)) for turn in range(chance.randint(1, 8))]
+    if kind == "clean":
+        return kind, chance.randrange(-1, stretches + 1)
+    return (kind, name, number) if kind == "cut" else (kind, name)
 
 
 def some_pairs(chance, many, most):

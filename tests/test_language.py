@@ -63,6 +63,15 @@ def own_classes():
     return {node.name: node for path, node in nodes(ast.ClassDef)}
 
 
+def own_errors():
+    """The own classes that come from ValueError, straight or through others."""
+    classes = own_classes()
+    errors = {"ValueError"}
+    for turn in classes:
+        errors |= {name for name, node in classes.items() for base in node.bases if base.id in errors}
+    return errors - {"ValueError"}
+
+
 def own_methods():
     return {part.name for path, node in nodes(ast.ClassDef) for part in node.body if isinstance(part, ast.FunctionDef)}
 
@@ -199,7 +208,7 @@ class LanguageTest(unittest.TestCase):
                 self.assertTrue(is_looped or called(parent) in takers, (path, child.lineno))
 
     def test_errors_are_made_on_the_spot_and_caught_by_name(self):
-        errors = {name for name, node in own_classes().items() if node.bases}
+        errors = own_errors()
         for path, node in nodes(ast.Raise):
             if node.exc is not None:
                 self.assertIn(called(node.exc), errors, (path, node.lineno))
@@ -216,6 +225,50 @@ class LanguageTest(unittest.TestCase):
                 is_fine = isinstance(parent, (ast.ClassDef, ast.ExceptHandler)) or called(parent) == child.id
                 is_fine = is_fine or (called(parent) == "isinstance" and parent.args[0] is not child)
                 self.assertTrue(is_fine, (path, child.lineno))
+
+    def test_keywords_of_builtins(self):
+        allowed = {"sorted": {"key", "reverse"}, "min": {"key", "default"}, "max": {"key", "default"},
+                   "sum": {"start"}, "enumerate": {"start"}, "zip": {"strict"}}
+        for path, node in nodes(ast.Call):
+            words = {one.arg for one in node.keywords}
+            if isinstance(node.func, ast.Name) and node.func.id in BUILTINS:
+                self.assertLessEqual(words, allowed.get(node.func.id, set()), (path, node.lineno))
+            elif isinstance(node.func, ast.Attribute):
+                self.assertEqual(words, set(), (path, node.lineno))
+            self.assertFalse([one for one in node.args if isinstance(one, ast.Starred)], (path, node.lineno))
+
+    def test_parameters_are_plain(self):
+        for path, node in nodes((ast.FunctionDef, ast.Lambda)):
+            parts = node.args
+            extra = [parts.vararg, parts.kwarg, *parts.posonlyargs, *parts.kwonlyargs, *parts.defaults]
+            self.assertEqual([one for one in extra if one is not None], [], (path, node.lineno))
+
+    def test_functions_are_not_nested(self):
+        for path, parent, child in child_pairs():
+            if isinstance(child, (ast.FunctionDef, ast.ClassDef)):
+                self.assertIsInstance(parent, (ast.Module, ast.ClassDef), (path, child.lineno))
+
+    def test_what_is_iterated_is_not_modified(self):
+        changing = {"append", "clear", "extend", "insert", "pop", "remove", "reverse", "setdefault", "update"}
+        for path, node in nodes(ast.For):
+            over = {one.id for one in ast.walk(node.iter) if isinstance(one, ast.Name)}
+            for part in ast.walk(ast.Module(node.body, [])):
+                if called(part) in changing and isinstance(part.func, ast.Attribute):
+                    self.assertNotIn(getattr(part.func.value, "id", ""), over, (path, part.lineno))
+
+    def test_strings(self):
+        for path in PATHS:
+            self.assertIsNone(re.search(r"\\[^nt\\\"']", path.read_text()), path)
+        for path, node in nodes(ast.FormattedValue):
+            self.assertIsNone(node.format_spec, (path, node.lineno))
+            self.assertFalse([one for one in ast.walk(node.value) if isinstance(one, (ast.Constant, ast.JoinedStr))],
+                             (path, node.lineno))
+
+    def test_what_init_gives_back(self):
+        for path, node in nodes(ast.FunctionDef):
+            if node.name.startswith("__"):
+                self.assertEqual(node.name, "__init__", (path, node.lineno))
+                self.assertFalse([one for one in ast.walk(node) if isinstance(one, ast.Return)], (path, node.lineno))
 
     def test_own_functions_are_passed_what_they_take(self):
         takes = {node.name: len(node.args.args) for path, node in nodes(ast.FunctionDef)

@@ -170,12 +170,7 @@ class TogetherTest(unittest.TestCase):
             house = PlainHouse(Disk(chance.randint(3, 9), chance.randint(2, 6)))
             house.mark()
             for turn in range(40):
-                if chance.random() < 0.3:
-                    house.disk.stop(chance.randrange(60))
-                try:
-                    house.do_deed(house.some_deed(chance))
-                except Stopped:
-                    house.go_on()
+                house.walk(chance, 0.3, 60)
                 state = risen(house.disk)
                 ahead = seen(house.disk), told_of(state)
                 self.assertEqual(all_asked(house.disk, state), self.due(house))

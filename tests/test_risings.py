@@ -430,22 +430,15 @@ class ByChanceTest(RisingsCase):
         self.assertGreater(passed, 300)
 
     def test_long_rows_of_deeds_with_stops(self):
-        marked = stops = gone = 0
+        stops = gone = 0
         for seed in range(60):
             chance = random.Random(seed)
             house = PlainHouse(Disk(chance.randint(3, 8), chance.randint(2, 8)))
             house.mark()
-            while house.following < 60 and marked < 4000:
-                if chance.random() < 0.3:
-                    house.disk.stop(chance.randrange(60))
-                try:
-                    house.do_deed(house.some_deed(chance))
-                except Stopped:
-                    stops += 1
-                marked += 1
+            for turn in range(40):
+                stops += house.walk(chance, 0.3, 60)
                 self.assert_told(risen, house.disk, house.told())
-                house.go_on()
-                self.assert_told(risen, house.disk, house.told())
+                self.assert_told(risen, house.disk.copied(), house.told())
                 numbers = sorted(row[1] for row, stretch, place in house.placed)
                 if numbers == list(range(len(numbers))):
                     self.assert_told(risen_all, house.disk, house.told())
